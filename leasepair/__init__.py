@@ -1,0 +1,1 @@
+"""Leasepair: numbers lent for a time by two keepers that stand in for one another."""
