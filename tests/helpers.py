@@ -30,6 +30,14 @@ def refused(case, error, call, *args, **named):
     return caught.exception
 
 
+def assert_same(case, one, other, is_same):
+    """Whether two are the same, asked of each, both by == and by !=."""
+    case.assertIs(one == other, is_same)
+    case.assertIs(other == one, is_same)
+    case.assertIs(one != other, not is_same)
+    case.assertIs(other != one, not is_same)
+
+
 def numbers_of(stretches):
     return {number for low, high in stretches for number in range(low, high + 1)}
 

@@ -9,7 +9,7 @@ from leasepair.errors import NoLetter
 from leasepair.letters import Letter
 from leasepair.pools import Pool
 
-from tests.helpers import BIG, DEFAULTS, KINDS, THINGS, VALUES, WIDE, refused, told_fields
+from tests.helpers import BIG, DEFAULTS, KINDS, THINGS, VALUES, WIDE, assert_same, refused, told_fields
 
 FULL = {
     "mark": 1, "number": 2, "span": 3, "turn": 4, "count": 5, "end": -6, "who": "c", "link": "l", "via": ("r", "q"),
@@ -108,32 +108,26 @@ class Fields(unittest.TestCase):
 
 class Sameness(unittest.TestCase):
 
-    def assert_same(self, one, other, is_same):
-        self.assertIs(one == other, is_same)
-        self.assertIs(other == one, is_same)
-        self.assertIs(one != other, not is_same)
-        self.assertIs(other != one, not is_same)
-
     def test_field_by_field(self):
         full = Letter("books", "one", "two", **FULL)
-        self.assert_same(full, Letter("books", "one", "two", **FULL), True)
-        self.assert_same(full, Letter("told", "one", "two", **FULL), False)
-        self.assert_same(full, Letter("books", "two", "two", **FULL), False)
-        self.assert_same(full, Letter("books", "one", "one", **FULL), False)
-        self.assert_same(full, Letter("books", "one", "", **FULL), False)
+        assert_same(self, full, Letter("books", "one", "two", **FULL), True)
+        assert_same(self, full, Letter("told", "one", "two", **FULL), False)
+        assert_same(self, full, Letter("books", "two", "two", **FULL), False)
+        assert_same(self, full, Letter("books", "one", "one", **FULL), False)
+        assert_same(self, full, Letter("books", "one", "", **FULL), False)
         for name, values in VALUES.items():
             for value in values + (DEFAULTS[name],):
                 other = Letter("books", "one", "two", **{**FULL, name: value})
-                self.assert_same(full, other, value == FULL[name])
+                assert_same(self, full, other, value == FULL[name])
 
     def test_parts_of_rows(self):
         row = (7, 8, True, "d", 9)
         letter = Letter("books", "one", rows=(row,))
         for at, part in enumerate((6, 9, False, "", None)):
             other = row[:at] + (part,) + row[at + 1:]
-            self.assert_same(letter, Letter("books", "one", rows=(other,)), False)
-        self.assert_same(letter, Letter("books", "one", rows=(row, row)), False)
-        self.assert_same(letter, Letter("books", "one", rows=((7, 8, True, "d", 9),)), True)
+            assert_same(self, letter, Letter("books", "one", rows=(other,)), False)
+        assert_same(self, letter, Letter("books", "one", rows=(row, row)), False)
+        assert_same(self, letter, Letter("books", "one", rows=((7, 8, True, "d", 9),)), True)
 
     def test_fields_do_not_stand_in_for_one_another(self):
         made = [Letter("told", "one", **{name: 5}) for name in ("mark", "number", "span", "turn", "count", "end")]
@@ -141,13 +135,13 @@ class Sameness(unittest.TestCase):
         made += [Letter("told", "one", number=0), Letter("told", "one", end=0), Letter("told", "one")]
         for at, one in enumerate(made):
             for place, other in enumerate(made):
-                self.assert_same(one, other, at == place)
+                assert_same(self, one, other, at == place)
 
     def test_unlike_what_is_no_letter(self):
         letter = Letter("offer", "one", "c", mark=1, number=7)
         others = [repr(letter), tuple(told_fields(letter)), told_fields(letter), Pool(), letters.letter_bytes(letter)]
         for thing in THINGS + others:
-            self.assert_same(letter, thing, False)
+            assert_same(self, letter, thing, False)
 
 
 class Shown(unittest.TestCase):

@@ -7,7 +7,7 @@ from leasepair.errors import NoNumber, NoPlace
 from leasepair.letters import Letter
 from leasepair.pools import Pool, pool_read
 
-from tests.helpers import THINGS, WIDE, fewest_of, many_singles, numbers_of, refused, some_stretches
+from tests.helpers import THINGS, WIDE, assert_same, fewest_of, many_singles, numbers_of, refused, some_stretches
 
 TOP = 999999
 
@@ -231,29 +231,23 @@ class TwoPools(unittest.TestCase):
 
 class Sameness(unittest.TestCase):
 
-    def assert_same(self, one, other, is_same):
-        self.assertIs(one == other, is_same)
-        self.assertIs(other == one, is_same)
-        self.assertIs(one != other, not is_same)
-        self.assertIs(other != one, not is_same)
-
     def test_by_their_numbers(self):
-        self.assert_same(Pool(((1, 2), (3, 4))), Pool(((1, 4),)), True)
-        self.assert_same(Pool(((9, 9), (3, 7))), Pool(((3, 7), (9, 9))), True)
-        self.assert_same(Pool(), Pool(((1, 4),)), False)
-        self.assert_same(Pool(((1, 4),)), Pool(((1, 5),)), False)
-        self.assert_same(Pool(((1, 4),)), Pool(((0, 4),)), False)
-        self.assert_same(Pool(((1, 4),)), Pool(((1, 4), (6, 6))), False)
-        self.assert_same(Pool(((1, 4),)), Pool(((2, 5),)), False)
-        self.assert_same(Pool(), Pool(((1, 4),)).met(Pool(((5, 6),))), True)
-        self.assert_same(many_singles(25), many_singles(25), True)
-        self.assert_same(many_singles(25), many_singles(26), False)
+        assert_same(self, Pool(((1, 2), (3, 4))), Pool(((1, 4),)), True)
+        assert_same(self, Pool(((9, 9), (3, 7))), Pool(((3, 7), (9, 9))), True)
+        assert_same(self, Pool(), Pool(((1, 4),)), False)
+        assert_same(self, Pool(((1, 4),)), Pool(((1, 5),)), False)
+        assert_same(self, Pool(((1, 4),)), Pool(((0, 4),)), False)
+        assert_same(self, Pool(((1, 4),)), Pool(((1, 4), (6, 6))), False)
+        assert_same(self, Pool(((1, 4),)), Pool(((2, 5),)), False)
+        assert_same(self, Pool(), Pool(((1, 4),)).met(Pool(((5, 6),))), True)
+        assert_same(self, many_singles(25), many_singles(25), True)
+        assert_same(self, many_singles(25), many_singles(26), False)
 
     def test_unlike_what_is_no_pool(self):
         for pool in (Pool(), Pool(((1, 2),)), Pool(((3, 7), (9, 9)))):
             others = [str(pool), repr(pool), pool.stretches(), len(pool), list(pool.stretches()), Letter("find", "c")]
             for thing in THINGS + others:
-                self.assert_same(pool, thing, False)
+                assert_same(self, pool, thing, False)
 
 
 class Texts(unittest.TestCase):
