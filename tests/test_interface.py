@@ -3,13 +3,22 @@
 import inspect
 import unittest
 
-from leasepair import letters, pools
+from leasepair import letters, pools, relays
+from leasepair.askers import Asker
+from leasepair.keepers import Keeper
 from leasepair.letters import Letter
 from leasepair.pools import Pool
+from leasepair.relays import Relay
+from leasepair.settings import Clock, Settings
 
 FUNCTIONS = {
     pools: {"pool_read": "(text)"},
     letters: {"letter_bytes": "(letter)", "letter_read": "(data)"},
+    relays: {"passed_by": "(relays, letter)", "brought_by": "(relays, letter)"},
+}
+MODULES = {
+    Pool: "pools", Letter: "letters", Relay: "relays", Settings: "settings", Clock: "settings", Asker: "askers",
+    Keeper: "keepers",
 }
 METHODS = {
     Pool: {
@@ -37,6 +46,48 @@ METHODS = {
         "__eq__": "(self, other)",
         "__repr__": "(self)",
     },
+    Relay: {
+        "__init__": "(self, name, *, link, most=4)",
+        "passed_on": "(self, letter)",
+        "brought_back": "(self, letter)",
+    },
+    Settings: {
+        "__init__": "(self, *, lease=60, lead=20, slack=2, grace=8, wait=28, rest=30)",
+        "row": "(self)",
+        "spares": "(self)",
+        "is_safe": "(self)",
+        "__eq__": "(self, other)",
+        "__str__": "(self)",
+    },
+    Clock: {
+        "__init__": "(self, *, slack=2)",
+        "lag": "(self)",
+        "reading": "(self, now)",
+        "put": "(self, now, *, lag)",
+    },
+    Asker: {
+        "__init__": "(self, name)",
+        "state": "(self, reading)",
+        "held": "(self, reading)",
+        "held_to": "(self, reading)",
+        "due": "(self, reading)",
+        "seek": "(self, reading)",
+        "renew": "(self, reading)",
+        "free": "(self, reading)",
+        "spoil": "(self, reading)",
+        "take": "(self, letter, reading)",
+    },
+    Keeper: {
+        "__init__": "(self, name, *, links, settings)",
+        "state": "(self)",
+        "entry": "(self, number)",
+        "is_free": "(self, number, reading, *, who='')",
+        "take": "(self, letter, reading)",
+        "give": "(self, number, reading)",
+        "alone": "(self, reading)",
+        "start": "(self)",
+        "again": "(self)",
+    },
 }
 
 
@@ -51,8 +102,9 @@ class Interface(unittest.TestCase):
                     self.assertEqual(str(inspect.signature(function)), arguments)
 
     def test_classes(self):
-        self.assertEqual(Pool.__module__, "leasepair.pools")
-        self.assertEqual(Letter.__module__, "leasepair.letters")
+        for owner, module in MODULES.items():
+            self.assertEqual(owner.__module__, f"leasepair.{module}")
+        self.assertEqual(set(MODULES), set(METHODS))
 
     def test_methods_stand_in_the_class_itself(self):
         for owner, told in METHODS.items():

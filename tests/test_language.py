@@ -103,6 +103,20 @@ class Language(unittest.TestCase):
                 if isinstance(node, ast.arg):
                     self.assertNotIn(node.arg, dir(builtins))
 
+    def test_is_with_none_and_truths_only(self):
+        for tree in trees():
+            for node in ast.walk(tree):
+                if isinstance(node, ast.Compare) and any(isinstance(sign, (ast.Is, ast.IsNot)) for sign in node.ops):
+                    self.assertIn(repr(node.comparators[-1].value), ("None", "True", "False"))
+
+    def test_told_texts_and_sameness_assign_lists_only(self):
+        for tree in trees():
+            for method in ast.walk(tree):
+                if isinstance(method, ast.FunctionDef) and method.name in METHODS - {"__init__"}:
+                    for node in ast.walk(method):
+                        if isinstance(node, (ast.Assign, ast.AugAssign)):
+                            self.assertIsInstance(node.value, (ast.List, ast.ListComp), method.name)
+
     def test_no_name_is_a_method_and_an_attribute(self):
         methods = set().union(*[own_methods(tree) for tree in trees()])
         attributes = set().union(*[own_attributes(tree) for tree in trees()])
