@@ -37,7 +37,7 @@ class Entry:
         self.who = asker
         self.turn = turn
 
-    def is_lent_by(self, asker, turn):
+    def is_lent_to(self, asker, turn):
         """Whether the keeper's own last grant, of this turn, still stands."""
         return self.title and self.who == asker and self.turn == turn and turn > 0
 

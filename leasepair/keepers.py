@@ -123,7 +123,7 @@ class Keeper:
 
     def take_in(self, letter, entry, reading):
         """Takes in a number that is freed or spoilt."""
-        if letter.who != self.name or not entry.is_lent_by(letter.sender, letter.turn):
+        if letter.who != self.name or not entry.is_lent_to(letter.sender, letter.turn):
             return
         entry.end_lease()
         if letter.kind == "spoil":
