@@ -6,6 +6,7 @@ from leasepair.letters import Letter
 
 ONE = "one"
 TWO = "two"
+KEEPERS = ("one", "two")
 PAIRED = "paired"
 ALONE = "alone"
 BACK = "back"
@@ -41,7 +42,7 @@ class Keeper:
     def take(self, letter, reading):
         if letter.sender == self.other and letter.receiver == self.name:
             return self.take_from_keeper(letter)
-        if letter.sender in (ONE, TWO) or letter.receiver not in ("", self.name) or self.phase == BACK:
+        if letter.sender in KEEPERS or letter.receiver not in ("", self.name) or self.phase == BACK:
             return []
         if letter.link not in self.numbers:
             return []

@@ -1,6 +1,6 @@
 """Letters, and the bytes in which they are written."""
 
-from leasepair.checks import is_name, is_number, is_whole_within
+from leasepair.checks import MOST_WHOLE, is_name, is_number, is_short_whole, is_whole_within
 from leasepair.codes import CHECK_SIZE, amount_bytes, check_bytes, end_bytes, end_of, number_bytes, number_of
 from leasepair.codes import row_bytes, row_of, text_bytes, text_of, via_bytes, via_of, whole_of
 from leasepair.errors import NoBytes, NoLetter
@@ -8,7 +8,6 @@ from leasepair.errors import NoBytes, NoLetter
 KINDS = (
     "find", "offer", "want", "grant", "deny", "renew", "free", "spoil", "told", "seen", "give", "back", "books",
 )
-MOST_AMOUNT = 999999999999
 MOST_NAMES = 4
 MOST_ROWS = 60
 ROWS_CODE = 12
@@ -141,11 +140,11 @@ def is_name_or_empty(thing):
 
 
 def is_amount(thing):
-    return is_whole_within(thing, 0, MOST_AMOUNT)
+    return is_whole_within(thing, 0, MOST_WHOLE)
 
 
 def is_end(thing):
-    return thing is None or is_whole_within(thing, -MOST_AMOUNT, MOST_AMOUNT)
+    return thing is None or is_short_whole(thing)
 
 
 def is_via(thing):

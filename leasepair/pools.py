@@ -1,6 +1,6 @@
 """Pools of numbers, kept as the fewest stretches, rising."""
 
-from leasepair.checks import TOP_NUMBER, is_number, is_whole_within
+from leasepair.checks import TOP_NUMBER, are_figures, is_number, is_whole_within
 from leasepair.errors import NoNumber, NoPlace, NoPool, NoShare, NoText
 
 MOST_STRETCHES = 20
@@ -179,10 +179,6 @@ def stretch_read(text):
     low, dash, high = text.partition("-")
     if dash == "":
         high = low
-    if not are_figures(low) or not are_figures(high) or int(low) > int(high):
+    if not are_figures(low, MOST_FIGURES) or not are_figures(high, MOST_FIGURES) or int(low) > int(high):
         raise NoText("a stretch is not written so")
     return int(low), int(high)
-
-
-def are_figures(text):
-    return 1 <= len(text) <= MOST_FIGURES and text.isascii() and text.isdigit()

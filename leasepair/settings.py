@@ -69,6 +69,12 @@ class Clock:
         self.shift = lag
 
 
+def settings_of(row):
+    """The settings whose row this is."""
+    lease, lead, slack, grace, wait, rest = row
+    return Settings(lease=lease, lead=lead, slack=slack, grace=grace, wait=wait, rest=rest)
+
+
 def refuse_other(name, thing, low, high):
     """Refuses what is no whole number from low to high."""
     if not is_whole_within(thing, low, high):

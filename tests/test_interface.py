@@ -3,22 +3,38 @@
 import inspect
 import unittest
 
-from leasepair import letters, pools, relays
+from leasepair import letters, papers, pools, relays, settings, texts
 from leasepair.askers import Asker
+from leasepair.desk import Desk
 from leasepair.keepers import Keeper
 from leasepair.letters import Letter
 from leasepair.pools import Pool
 from leasepair.relays import Relay
 from leasepair.settings import Clock, Settings
+from leasepair.worlds import World
 
 FUNCTIONS = {
     pools: {"pool_read": "(text)"},
     letters: {"letter_bytes": "(letter)", "letter_read": "(data)"},
     relays: {"passed_by": "(relays, letter)", "brought_by": "(relays, letter)"},
+    papers: {"small_world": "(settings)", "paper": "(settings)", "looked": "(claim, paper)"},
+    texts: {
+        "event_text": "(event)", "run_text": "(events)", "letter_text": "(letter)", "event_read": "(text)",
+        "run_read": "(text)",
+    },
+}
+VALUES = {
+    letters: {
+        "KINDS": (
+            "find", "offer", "want", "grant", "deny", "renew", "free", "spoil", "told", "seen", "give", "back", "books",
+        ),
+    },
+    relays: {"MOST": 4},
+    settings: {"LEASE": 60, "LEAD": 20, "SLACK": 2, "REST": 30},
 }
 MODULES = {
     Pool: "pools", Letter: "letters", Relay: "relays", Settings: "settings", Clock: "settings", Asker: "askers",
-    Keeper: "keepers",
+    Keeper: "keepers", World: "worlds", Desk: "desk",
 }
 METHODS = {
     Pool: {
@@ -88,6 +104,26 @@ METHODS = {
         "start": "(self)",
         "again": "(self)",
     },
+    World: {
+        "__init__": "(self, settings, *, links, askers, relays=())",
+        "do": "(self, event)",
+        "run": "(self, events)",
+        "now": "(self)",
+        "letters": "(self)",
+        "holders": "(self, number)",
+        "both": "(self)",
+        "ever_both": "(self)",
+        "reading": "(self, name)",
+        "titled": "(self, number)",
+        "tried": "(self)",
+        "holds": "(self)",
+        "state": "(self, name)",
+    },
+    Desk: {
+        "__init__": "(self, most=4)",
+        "say": "(self, row)",
+        "__len__": "(self)",
+    },
 }
 
 
@@ -100,6 +136,11 @@ class Interface(unittest.TestCase):
                 with self.subTest(name=name):
                     self.assertEqual(function.__module__, module.__name__)
                     self.assertEqual(str(inspect.signature(function)), arguments)
+
+    def test_values(self):
+        for module, told in VALUES.items():
+            for name, value in told.items():
+                self.assertEqual(getattr(module, name), value)
 
     def test_classes(self):
         for owner, module in MODULES.items():

@@ -19,6 +19,17 @@ WORDS = (
     "NamedTuple TypedDict TYPE_CHECKING abstractmethod"
 ).split()
 
+# Methods of builtin values that LANGUAGE.md lists.
+BUILTIN_METHODS = set(
+    "append clear copy count endswith extend find get index insert isalnum isalpha isdigit islower isspace isupper items "
+    "join keys ljust lower lstrip partition pop remove replace reverse rfind rjust rpartition rsplit rstrip setdefault split "
+    "splitlines startswith strip update upper values zfill bit_length isascii".split()
+)
+UNUSED_NAMES = set(
+    "register mro elements open input law version_info with_traceback add_note breakpoint compile dir eval exec exit "
+    "getattr globals hasattr help id license locals os quit setattr super type vars sys".split()
+)
+
 
 def own_attributes(tree):
     return {
@@ -32,6 +43,12 @@ def own_methods(tree):
         part.name for node in ast.walk(tree) if isinstance(node, ast.ClassDef)
         for part in node.body if isinstance(part, ast.FunctionDef)
     }
+
+
+def module_names(tree):
+    """What a file itself defines."""
+    names = {node.name for node in tree.body if isinstance(node, (ast.FunctionDef, ast.ClassDef))}
+    return names | {node.targets[0].id for node in tree.body if isinstance(node, ast.Assign)}
 
 
 def trees():
@@ -116,6 +133,58 @@ class Language(unittest.TestCase):
                     for node in ast.walk(method):
                         if isinstance(node, (ast.Assign, ast.AugAssign)):
                             self.assertIsInstance(node.value, (ast.List, ast.ListComp), method.name)
+
+    def test_no_generators(self):
+        """Where a class has its own sameness, what is summed up, sorted or looked through is a list."""
+        for tree in trees():
+            for node in ast.walk(tree):
+                self.assertNotIsInstance(node, (ast.GeneratorExp, ast.Yield, ast.YieldFrom))
+
+    def test_sets_are_sorted_or_counted_on_the_spot(self):
+        for tree in trees():
+            calls = [node for node in ast.walk(tree) if isinstance(node, ast.Call) and isinstance(node.func, ast.Name)]
+            fit = {id(part) for call in calls if call.func.id in ("sorted", "len") for part in call.args}
+            found = [node for node in ast.walk(tree) if isinstance(node, (ast.Set, ast.SetComp))]
+            found += [call for call in calls if call.func.id == "set"]
+            self.assertEqual([node.lineno for node in found if id(node) not in fit], [])
+
+    def test_no_variable_has_the_name_of_an_import_or_a_class(self):
+        for tree in trees():
+            taken = {name.name for node in tree.body if isinstance(node, ast.ImportFrom) for name in node.names}
+            taken |= {node.name for node in tree.body if isinstance(node, ast.ClassDef)}
+            bound = {node.arg for node in ast.walk(tree) if isinstance(node, ast.arg)}
+            bound |= {node.id for node in ast.walk(tree) if isinstance(node, ast.Name) and isinstance(node.ctx, ast.Store)}
+            self.assertEqual(taken & bound, set())
+
+    def test_names_that_are_not_used(self):
+        for tree in trees():
+            names = {node.id for node in ast.walk(tree) if isinstance(node, ast.Name)}
+            names |= {node.arg for node in ast.walk(tree) if isinstance(node, ast.arg)}
+            names |= {node.attr for node in ast.walk(tree) if isinstance(node, ast.Attribute)}
+            names |= {node.name for node in ast.walk(tree) if isinstance(node, (ast.FunctionDef, ast.ClassDef))}
+            self.assertEqual(names & UNUSED_NAMES, set())
+
+    def test_methods_that_are_called(self):
+        own = set().union(*[own_methods(tree) for tree in trees()])
+        for tree in trees():
+            for node in ast.walk(tree):
+                if isinstance(node, ast.Call) and isinstance(node.func, ast.Attribute):
+                    self.assertIn(node.func.attr, own | BUILTIN_METHODS)
+
+    def test_each_import_is_of_the_file_that_defines_it_and_none_goes_in_a_round(self):
+        parsed = {path.stem: tree for path, tree in zip(FILES, trees())}
+        defined = {name: module_names(tree) for name, tree in parsed.items()}
+        behind = {}
+        for name, tree in parsed.items():
+            imports = [node for node in tree.body if isinstance(node, ast.ImportFrom)]
+            behind[name] = {node.module.split(".")[1] for node in imports}
+            for node in imports:
+                for told in node.names:
+                    self.assertIn(told.name, defined[node.module.split(".")[1]])
+        while behind:
+            free = [name for name, others in behind.items() if not others & set(behind)]
+            self.assertNotEqual(free, [])
+            behind = {name: others for name, others in behind.items() if name not in free}
 
     def test_no_name_is_a_method_and_an_attribute(self):
         methods = set().union(*[own_methods(tree) for tree in trees()])
